@@ -1,0 +1,1 @@
+"""Ownwords: who is who among people without names."""
