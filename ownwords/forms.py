@@ -1,6 +1,6 @@
-"""The forms of the small values: whole numbers, words, names, marks, ways and errands.
+"""The forms of the small values: whole numbers, words, names, marks, ways, errands and keys.
 
-Each function here takes any value at all, so it looks at what a value is before it looks into it.
+Each function here but the last takes any value at all, so it looks at what a value is before it looks into it.
 """
 
 WORD_SIGNS = "abcdefghijklmnopqrstuvwxyz0123456789"
@@ -67,3 +67,19 @@ def is_errand(thing):
 def is_row_errand(thing):
     """Whether this is an errand as the rows of a book write it."""
     return is_shared_errand(thing) or thing == ("tie",)
+
+
+def is_key(thing):
+    """Whether this can be the name of a row, a place, a tie or an end, and so may be looked for among them."""
+    if is_whole(thing):
+        return True
+    return isinstance(thing, tuple) and all(is_whole(part) or isinstance(part, str) for part in thing)
+
+
+def spelled(number, signs):
+    """A string of these signs for each whole number, the shorter ones first, no two alike."""
+    text = signs[number % len(signs)]
+    while number >= len(signs):
+        number = number // len(signs) - 1
+        text = signs[number % len(signs)] + text
+    return text

@@ -54,4 +54,19 @@ def row(way, errand, *seen):
     return (tuple(way.split()), errand, (seen[0], tuple(seen[1].split())) + seen[2:])
 
 
-WALK = ("walk",)
+def walk(way, backs):
+    """The row of a walk that came."""
+    return row(way, WALK, "came", backs, None)
+
+
+def lost(way, backs=""):
+    """The row of a walk that was lost."""
+    return row(way, WALK, "lost", backs)
+
+
+def listed(words, way="", backs=""):
+    """The row of a list of these words."""
+    return row(way, LIST, "came", backs, tuple(words.split()))
+
+
+WALK, LIST, TIE, PART = ("walk",), ("list",), ("tie",), ("part",)
