@@ -20,8 +20,7 @@ def fold_paper(book, *, put=()):
 
 def is_clash(book, steps, thing, *, put=()):
     """Whether these are steps and this is a clash of the lots after them."""
-    folding = unfolded(book, put)
-    return folding.takes(steps) and is_clash_now(folding, thing)
+    return is_clash_behind(unfolded(book, put), steps, thing)
 
 
 def first_clash(folding):
@@ -84,6 +83,11 @@ def first_life(folding):
         if not lives.marks[name].has_life():
             return ("life", name[0], name[1])
     return None
+
+
+def is_clash_behind(folding, steps, thing):
+    """Whether the folding takes these steps and this is a clash of the lots after them."""
+    return folding.takes(steps) and is_clash_now(folding, thing)
 
 
 def is_clash_now(folding, thing):

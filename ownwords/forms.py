@@ -76,6 +76,11 @@ def is_key(thing):
     return isinstance(thing, tuple) and all(is_whole(part) or isinstance(part, str) for part in thing)
 
 
+def is_answer(thing, word, size):
+    """Whether this is a tuple of this size with this word at its front."""
+    return isinstance(thing, tuple) and len(thing) == size and thing[0] == word
+
+
 def spelled(number, signs):
     """A string of these signs for each whole number, the shorter ones first, no two alike."""
     text = signs[number % len(signs)]

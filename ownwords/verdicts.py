@@ -52,10 +52,15 @@ def word_at(book, place, word, row):
 def sound_folding(book):
     """The folding of a valid book after all steps; raises NoWorld if its lots have a clash."""
     folding = folded(book, ())
+    check_sound(folding)
+    return folding
+
+
+def check_sound(folding):
+    """Raises NoWorld if the lots of the folding have a clash."""
     clash = first_clash(folding)
     if clash is not None:
         raise NoWorld((tuple(folding.steps), clash))
-    return folding
 
 
 def is_possible(folding, wish):

@@ -70,3 +70,22 @@ def listed(words, way="", backs=""):
 
 
 WALK, LIST, TIE, PART = ("walk",), ("list",), ("tie",), ("part",)
+
+
+def shown(value):
+    """The value written out, so that 1 and True are two values."""
+    return repr(value)
+
+
+def changed(thing):
+    """Values that differ from this one at one spot: a truth for a number, a list for a tuple, a part more or less."""
+    if isinstance(thing, bool) or thing is None:
+        return [0, "no"]
+    if isinstance(thing, int):
+        return [True, False, thing + 1, thing - 1, str(thing), None, -1, 10 ** 4299, (thing,)]
+    if isinstance(thing, str):
+        return [thing + "z", "", "?", 0, None, (thing,)]
+    found = [list(thing), thing + (0,), thing[:-1], thing[::-1], thing + thing[-1:], (), None, deep_tuple(), "x"]
+    for at, part in enumerate(thing):
+        found.extend(thing[:at] + (other,) + thing[at + 1:] for other in changed(part))
+    return found

@@ -2,9 +2,12 @@
 
 import unittest
 
+from ownwords.bills import bill, gained
 from ownwords.clashes import clash_of, fold_paper, is_clash
-from ownwords.errors import NoBook, NoPlace, NoRow, NoWorld
+from ownwords.errors import NoBook, NoPlace, NoRow, NoSorting, NoWorld, TooMany
 from ownwords.foldings import are_steps, lots, lots_behind
+from ownwords.judges import is_never, is_one, is_open, is_two
+from ownwords.sortings import barred, common, counts, is_sorting_paper, sorting_paper, sortings
 from ownwords.verdicts import could_be, who, word_at
 from ownwords.worlds import history_of, is_history_of
 
@@ -20,6 +23,11 @@ def book():
         row("a", ("leave", 1), "came", "b", None), row("a", ("look", 1), "came", "b", True), ("met", "a", 3),
         row("c d", ("list",), "came", "e f", ("f", "g")), row("h", WALK, "lost", ""),
     ]
+
+
+def small_book():
+    """A new book of few lots."""
+    return [row("a", ("leave", 1), "came", "b", None), row("c", ("look", 1), "came", "d", False), row("e", WALK, "came", "f", None)]
 
 
 def pairs():
@@ -57,6 +65,24 @@ CALLS = (
     (word_at, lambda: {"book": book(), "place": (0, 0), "word": "a", "row": 1}),
     (word_at, lambda: {"book": book(), "place": (0, 0), "word": "h", "row": 4}),
     (word_at, lambda: {"book": book(), "place": (3, 2), "word": "g", "row": 2}),
+    (is_one, lambda: {"book": book(), "one": (0, 1), "other": (1, 1), "thing": ("one", STEPS[1:])}),
+    (is_one, lambda: {"book": book(), "one": (0, 1), "other": (1, 1), "thing": ["one", [["look", 1]]]}),
+    (is_two, lambda: {"book": book(), "one": (0, 0), "other": (0, 1), "thing": ("two", STEPS[:1], CLASH)}),
+    (is_two, lambda: {"book": book(), "one": (0, 0), "other": (0, 1), "thing": ("two", [["put", 0]], [CLASH])}),
+    (is_open, lambda: {"book": book(), "one": (0, 1), "other": (3, 2), "thing": who(book(), (0, 1), (3, 2))}),
+    (is_open, lambda: {"book": book(), "one": (0, 1), "other": (3, 2), "thing": ["open", [history()], []]}),
+    (is_never, lambda: {"book": book(), "pairs": [((0, 0), (0, 1))], "thing": ("never", STEPS[:1], CLASH)}),
+    (is_never, lambda: {"book": book(), "pairs": pairs(), "thing": [["never"], [["put", 0]], [CLASH]]}),
+    (bill, lambda: {"book": book()}),
+    (gained, lambda: {"book": book()}),
+    (sortings, lambda: {"book": small_book()}),
+    (counts, lambda: {"book": small_book()}),
+    (barred, lambda: {"book": small_book()}),
+    (sorting_paper, lambda: {"book": small_book(), "sorting": [[0], [1, 2], [3]]}),
+    (sorting_paper, lambda: {"book": small_book(), "sorting": [[0], [1, 3], [2]]}),
+    (common, lambda: {"one": [[0, 1], [2]], "two": [[0, 1], [2]]}),
+    (is_sorting_paper, lambda: {"book": small_book(), "sorting": [[0], [1, 3], [2]], "thing": ["history", [history()]]}),
+    (is_sorting_paper, lambda: {"book": small_book(), "sorting": [[0, 1], [2], [3]], "thing": ("never", STEPS[:1], CLASH)}),
 )
 
 BAD_CALLS = (
@@ -70,7 +96,17 @@ BAD_CALLS = (
     (NoWorld, who, lambda: {"book": book() + [row("a", WALK, "came", "x", None)], "one": (0, 0), "other": (0, 0)}),
     (NoPlace, could_be, lambda: {"book": book(), "pairs": [((0, 0), [[0], 0])]}),
     (NoRow, word_at, lambda: {"book": book(), "place": (0, 0), "word": "a", "row": [[1]]}),
+    (NoPlace, is_one, lambda: {"book": book(), "one": [[0], 0], "other": (0, 0), "thing": [[]]}),
+    (NoPlace, is_never, lambda: {"book": book(), "pairs": [((0, 0), [[0], 0])], "thing": [[]]}),
+    (NoBook, bill, lambda: {"book": [[None]]}),
+    (TooMany, sorting_paper, lambda: {"book": book() + [row("a b c d e f g", WALK, "came", "a b c d e f g", None)], "sorting": [[1]]}),
+    (NoWorld, barred, lambda: {"book": small_book() + [row("a", WALK, "came", "x", None)]}),
+    (NoSorting, is_sorting_paper, lambda: {"book": small_book(), "sorting": [[0, 1], [2, [3]]], "thing": [[]]}),
 )
+
+
+# The kinds of the answers that are neither tuples nor truths.
+KINDS = {lots: list, lots_behind: list, bill: dict, gained: list, sortings: list, counts: list, barred: list, common: list}
 
 
 def lists_in(value):
@@ -131,10 +167,10 @@ class AnswersTest(unittest.TestCase):
     def test_kinds_of_values(self):
         for call, make in CALLS:
             answer = call(**make())
-            kind = {lots: list, lots_behind: list, are_steps: bool, is_clash: bool, is_history_of: bool}.get(call, tuple)
+            kind = bool if call.__name__.startswith(("is_", "are_")) else KINDS.get(call, tuple)
             if answer is not None:
                 self.assertIs(type(answer), kind, call)
-            if kind is list:
+            if call in (lots, lots_behind):
                 self.assertTrue(all(type(lot) is list and type(place) is tuple for lot in answer for place in lot))
             if kind is tuple:
                 self.assertEqual(lists_in(answer), [])

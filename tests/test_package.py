@@ -28,6 +28,15 @@ INTERFACE = {
     "verdicts": {
         "who": "(book, one, other)", "could_be": "(book, pairs)", "word_at": "(book, place, word, row)",
     },
+    "judges": {
+        "is_one": "(book, one, other, thing)", "is_two": "(book, one, other, thing)",
+        "is_open": "(book, one, other, thing)", "is_never": "(book, pairs, thing)",
+    },
+    "bills": {"bill": "(book)", "gained": "(book)"},
+    "sortings": {
+        "sortings": "(book)", "counts": "(book)", "barred": "(book)", "sorting_paper": "(book, sorting)",
+        "common": "(one, two)", "is_sorting_paper": "(book, sorting, thing)",
+    },
 }
 
 BARRED_NAMES = ("register", "mro", "elements", "open", "input", "law", "version_info", "with_traceback", "add_note")
@@ -78,6 +87,8 @@ class LanguageTest(unittest.TestCase):
             for node in ast.walk(ast.parse(text)):
                 self.assertNotIsInstance(node, ast.Import, name)
                 if isinstance(node, ast.ImportFrom):
+                    if node.module == "itertools":
+                        continue
                     self.assertTrue(node.module.startswith("ownwords."), name)
                     file = node.module.partition(".")[2]
                     found[name[:-3]].append(file)
