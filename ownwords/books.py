@@ -27,11 +27,13 @@ def check_book(book):
 
 def check_place(book, place):
     """Raises NoPlace if the valid book has no such place."""
-    if not isinstance(place, tuple) or len(place) != 2:
+    if not isinstance(place, tuple) or len(place) != 2 or not has_place(book, place[0], place[1]):
         raise NoPlace(place)
-    number, step = place
-    if not is_below(number, len(book)) or not is_below(step, len(backs_of(book[number])) + 1):
-        raise NoPlace(place)
+
+
+def has_place(book, number, step):
+    """Whether the valid book has a row of this number with a place after so many steps."""
+    return is_below(number, len(book)) and is_below(step, len(backs_of(book[number])) + 1)
 
 
 def first_bad_row(rows):

@@ -92,22 +92,32 @@ def is_clash_behind(folding, steps, thing):
 
 def is_clash_now(folding, thing):
     """Whether this is a clash of the lots of the folding."""
-    if not isinstance(thing, tuple) or len(thing) == 0 or (thing[0], len(thing)) not in CLASH_FORMS:
+    if not is_formed(thing, CLASH_FORMS):
         return False
+    if thing[0] == "keeps":
+        return is_keeps(folding, thing[1], thing[2])
+    if thing[0] == "life":
+        return is_lifeless(folding, thing[1], thing[2])
+    return is_common_clash(folding, thing)
+
+
+def is_formed(thing, forms):
+    """Whether this is a tuple of a word and a key first, and as long as the forms say for the word."""
+    if not isinstance(thing, tuple) or len(thing) < 2 or not is_key(thing[1]):
+        return False
+    return (thing[0], len(thing)) in forms
+
+
+def is_common_clash(folding, thing):
+    """Whether this, which has the form of a clash, is one of a kind that several books have too."""
     kind, about = thing[0], thing[1]
-    if not is_key(about):
-        return False
     if kind == "words":
         return folding.are_ends(about, thing[2]) and are_at_odds(folding, about, thing[2])
     if kind == "loop":
         return is_loop(folding, about)
     if kind == "apart":
         return is_apart(folding, about)
-    if kind == "unleft":
-        return about in folding.facts.unleft
-    if kind == "keeps":
-        return is_keeps(folding, about, thing[2])
-    return is_lifeless(folding, about, thing[2])
+    return kind == "unleft" and about in folding.facts.unleft
 
 
 def are_at_odds(folding, one, other):

@@ -1,11 +1,11 @@
 """Foldings: the places of a book, merged step by step into lots."""
 
 from ownwords.books import check_book, check_place
-from ownwords.facts import Facts
+from ownwords.facts import facts_of
 from ownwords.forms import is_below, is_key
 from ownwords.groups import Groups
 
-STEP_FORMS = (("tie", 3), ("look", 2), ("self", 2), ("put", 2))
+STEP_FORMS = (("tie", 3), ("look", 2), ("self", 2), ("meet", 2), ("put", 2))
 
 
 def lots(book, *, put=()):
@@ -32,7 +32,7 @@ def unfolded(book, put):
     for one, other in put:
         check_place(book, one)
         check_place(book, other)
-    return Folding(Facts(book), list(put))
+    return Folding(facts_of(book), list(put))
 
 
 def folded(book, put):
@@ -48,7 +48,10 @@ def other_end(end):
 
 
 class Folding:
-    """The lots of the places that some facts tell of, and the steps that merged them."""
+    """The lots of the places that some facts tell of, and the steps that merged them.
+
+    The pairs are those that put steps put together; a pair may also be None, and then its number is no such step.
+    """
 
     def __init__(self, facts, pairs):
         self.facts = facts
@@ -57,8 +60,14 @@ class Folding:
         self.groups = Groups()
         for place in facts.places:
             self.groups.enter(place)
-        for home in facts.homes:
-            self.groups.unite(facts.homes[0], home)
+        for home, first in facts.homes.items():
+            self.groups.unite(first, home)
+
+    def twin(self):
+        """A folding with the same lots, which can go on on its own and has no steps so far."""
+        other = Folding(self.facts, self.pairs)
+        other.groups = self.groups.twin()
+        return other
 
     def lot_of(self, place):
         """The first place of the lot of this place, by which the lot is known."""
@@ -102,6 +111,8 @@ class Folding:
             return self.facts.found.get(step[1])
         if step[0] == "self":
             return self.facts.selves.get(step[1])
+        if step[0] == "meet":
+            return self.facts.joined.get(step[1])
         return self.merged_by_ties(step[1], step[2])
 
     def merged_by_ties(self, one, other):
@@ -124,6 +135,8 @@ class Folding:
             self.take(("look", row))
         for row in self.facts.selves:
             self.take(("self", row))
+        for row in self.facts.joined:
+            self.take(("meet", row))
         many = -1
         while many < len(self.steps):
             many = len(self.steps)

@@ -70,8 +70,8 @@ def is_row_errand(thing):
 
 
 def is_key(thing):
-    """Whether this can be the name of a row, a place, a tie or an end, and so may be looked for among them."""
-    if is_whole(thing):
+    """Whether this can be the name of a book, a row, a place, a tie or an end, and so may be looked for among them."""
+    if is_whole(thing) or isinstance(thing, str):
         return True
     return isinstance(thing, tuple) and all(is_whole(part) or isinstance(part, str) for part in thing)
 

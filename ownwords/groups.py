@@ -34,6 +34,12 @@ class Groups:
         self.below[high] = low
         return low != high
 
+    def twin(self):
+        """Groups of the same members, which can be joined further on their own."""
+        other = Groups()
+        other.below = {member: self.below[member] for member in self.below}
+        return other
+
     def as_lists(self):
         """The groups as a dict from their least members to lists of all their members, in order."""
         found = {}

@@ -4,9 +4,9 @@ from ownwords.groups import Groups
 
 
 class Marks:
-    """The rows at which a tie has its marks.
+    """The rows at which a tie has its marks; several books have rows of one moment, and one of these stands for all.
 
-    The moment of row r is counted as 2 * r, and the one directly after it as 2 * r + 1.
+    In a single book the moment of row r is counted as 2 * r, and the one directly after it as 2 * r + 1.
     """
 
     def __init__(self):
@@ -15,12 +15,16 @@ class Marks:
         self.born = []
         self.dead = []
 
+    def sure_rows(self):
+        """The rows that say that the tie lived, at them or directly after them."""
+        return self.living + self.dead + self.born
+
     def sure_moments(self):
-        """The moments at which the tie surely lived."""
+        """The moments at which the tie surely lived, in a single book."""
         return [2 * row for row in self.living + self.dead] + [2 * row + 1 for row in self.born]
 
     def has_life(self):
-        """Whether all these marks can be true."""
+        """Whether all these marks can be true, in a single book."""
         sure = self.sure_moments()
         if len(sure) == 0:
             return True
@@ -48,8 +52,11 @@ class Lives:
         self.mark_runs()
         for kind, place, word, row in wishes:
             marks = self.marks_at(place, word)
-            noted = marks.living if kind == "lives" else marks.lacking
-            noted.append(row)
+            self.note(marks.living if kind == "lives" else marks.lacking, row)
+
+    def note(self, noted, row):
+        """Notes the moment of this row."""
+        noted.append(self.folding.facts.moments[row])
 
     def all_ties(self):
         """The ties as a dict from the least name of each to the list of its names, in order."""
@@ -88,15 +95,15 @@ class Lives:
         """Sets the marks of steps and of lost, met, tie and part letters."""
         facts = self.folding.facts
         for row, tie in facts.followed:
-            self.marks_of(tie).living.append(row)
+            self.note(self.marks_of(tie).living, row)
         for row, place, word in facts.mets:
-            self.marks_at(place, word).living.append(row)
+            self.note(self.marks_at(place, word).living, row)
         for row, place, word in facts.losses:
-            self.marks_at(place, word).lacking.append(row)
+            self.note(self.marks_at(place, word).lacking, row)
         for row, tie in facts.made.items():
-            self.marks_of(tie).born.append(row)
+            self.note(self.marks_of(tie).born, row)
         for row, tie in facts.ended.items():
-            self.marks_of(tie).dead.append(row)
+            self.note(self.marks_of(tie).dead, row)
 
     def mark_lists(self):
         """Sets the marks of lists: a list is complete, so each name in its lot is marked by it."""
@@ -106,14 +113,15 @@ class Lives:
         for row, place, words in self.folding.facts.lists:
             for word in words_at.get(self.folding.lot_of(place), []):
                 marks = self.marks_at(place, word)
-                noted = marks.living if word in words else marks.lacking
-                noted.append(row)
+                self.note(marks.living if word in words else marks.lacking, row)
 
     def mark_runs(self):
         """Sets the marks of runs: there a tie is made or ended by the owner's letters alone."""
         facts = self.folding.facts
         for row, tie in facts.made.items():
-            if facts.run_ends.get(row, row) > row:
-                self.marks_of(tie).living.append(row + 1)
+            if row in facts.runs and row < facts.runs[row][1]:
+                self.note(self.marks_of(tie).living, row + 1)
         for row, tie in facts.ended.items():
-            self.marks_of(tie).lacking.extend(list(range(row + 1, facts.run_ends.get(row, row) + 1)))
+            if row in facts.runs:
+                for later in range(row + 1, facts.runs[row][1] + 1):
+                    self.note(self.marks_of(tie).lacking, later)

@@ -20,7 +20,7 @@ def sortings(book):
     for sorting in all_sortings(len(firsts)):
         folding = folded(book, pairs_of(sorting, firsts))
         if len(folding.lots_now()) == len(sorting) and first_clash(folding) is None:
-            found.append((sorting, told_history(book, folding, ())))
+            found.append((sorting, told_history(folding, ())))
     return found
 
 
@@ -58,7 +58,7 @@ def sorting_paper(book, sorting):
     for one, other in subsets(len(firsts), 2):
         if not are_listed_together(sorting, one, other) and folding.are_one(firsts[one], firsts[other]):
             return ("more", tuple(folding.steps), one, other)
-    return ("history", told_history(book, folding, ()))
+    return ("history", told_history(folding, ()))
 
 
 def common(one, two):

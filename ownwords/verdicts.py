@@ -21,7 +21,7 @@ def who(book, one, other):
     clash = first_clash(merged)
     if clash is not None:
         return ("two", tuple(merged.steps), clash)
-    return ("open", told_history(book, merged, ()), told_history(book, apart, ()))
+    return ("open", told_history(merged, ()), told_history(apart, ()))
 
 
 def could_be(book, pairs):
@@ -31,7 +31,7 @@ def could_be(book, pairs):
     clash = first_clash(merged)
     if clash is not None:
         return ("never", tuple(merged.steps), clash)
-    return ("history", told_history(book, merged, ()))
+    return ("history", told_history(merged, ()))
 
 
 def word_at(book, place, word, row):
@@ -46,7 +46,7 @@ def word_at(book, place, word, row):
         return ("yes",)
     if not is_possible(folding, living):
         return ("no",)
-    return ("open", told_history(book, folding, (living,)), told_history(book, folding, (lacking,)))
+    return ("open", told_history(folding, (living,)), told_history(folding, (lacking,)))
 
 
 def sound_folding(book):

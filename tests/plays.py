@@ -111,3 +111,153 @@ def changed_book(seed, book):
     except NoBook:
         return list(book)
     return rows
+
+
+def calm_history(seed, rows=5):
+    """A history in which mostly nothing happens unseen, and "me" makes and ends ties and is told so."""
+    dice = Dice(seed)
+    people = 3 + dice.throw(2)
+    words = WORDS[:2 + dice.throw(4)]
+    play = Play(people, (("me", 0),))
+    events = []
+    for number in range(60):
+        if len(play.books["me"]) >= rows:
+            break
+        kind = dice.throw(10)
+        if number < 4 + dice.throw(6) or kind == 0:
+            chosen = ("born", dice.throw(people), dice.pick(words), dice.throw(people), dice.pick(words))
+        elif kind == 1 and play.books["me"]:
+            chosen = ("calm", "me", dice.pick((0, 0, dice.throw(len(play.books["me"])))))
+        else:
+            errand_now = dice.pick((("list",), ("list",), ("walk",), ("part",), ("part",), ("tie", dice.pick(words), dice.pick(words))))
+            chosen = ("letter", "me", way_from(dice, play, 0), errand_now)
+        try:
+            play.do(chosen)
+        except NoHistory:
+            continue
+        events.append(chosen)
+    if play.books["me"] and dice.throw(3) > 0:
+        last = ("calm", "me", play.calm_from["me"])
+        try:
+            play.do(last)
+            events.append(last)
+        except NoHistory:
+            pass
+    return people, (("me", 0),), tuple(events)
+
+
+def told_row(dice, backs_at):
+    """Some row of a letter; backs_at keeps the back of each way that was gone."""
+    way = tuple(dice.pick(("a", "b", "x")) for _ in range(dice.pick((0, 1, 1, 1, 2))))
+    backs = tuple(backs_at.setdefault(way[:step], dice.pick(("p", "x", "x", "q"))) for step in range(1, len(way) + 1))
+    kind = dice.throw(8)
+    if kind == 0 and way:
+        return way, ("walk",), ("lost", backs[:-1])
+    if kind < 4:
+        words = {word for word in ("x", "y") if dice.throw(3) > 0}
+        return way, ("list",), ("came", backs, tuple(sorted(words | set(backs[-1:]))))
+    if kind < 6 and way:
+        return way, ("part",), ("came", backs, None)
+    if kind == 6 and way:
+        return way, ("tie",), ("came", backs, (dice.pick(("x", "y", "z")), dice.pick(("x", "y"))))
+    return way, ("walk",), ("came", backs, None)
+
+
+def told_book(seed, rows=4):
+    """A book with a calm row at its end that no one played, and that may have no history."""
+    dice = Dice(seed)
+    backs_at = {}
+    book = [told_row(dice, backs_at) for _ in range(rows)]
+    return book + [("calm", dice.pick((0, 0, 1)))]
+
+
+def changed_lists_book(seed):
+    """A book in which lists tell that ties ended or began in a run, and letters between that may have done it."""
+    dice = Dice(seed)
+    words = ("x", "y", "z")[:2 + dice.throw(2)]
+    before = tuple(sorted({word for word in words if dice.throw(3) > 0} | {"p"}))
+    after = tuple(sorted({word for word in words if dice.throw(3) == 0} | {"p"}))
+    rows = [(("a",), ("list",), ("came", ("p",), before))]
+    backs = {}
+    for _ in range(1 + dice.throw(2)):
+        far = dice.pick(("b", "c"))
+        back = backs.setdefault(far, dice.pick(("p", "q", "q", "r")))
+        if dice.throw(3) == 0:
+            rows.append(((far,), ("tie",), ("came", (back,), (dice.pick(words), dice.pick(words)))))
+        elif dice.throw(4) == 0:
+            rows.append(((dice.pick(words),), ("part",), ("came", (dice.pick(words),), None)))
+        else:
+            rows.append(((far, dice.pick(words)), ("part",), ("came", (back, dice.pick(words)), None)))
+    rows.append((("a",), ("list",), ("came", ("p",), after)))
+    if dice.throw(3) == 0:
+        rows.insert(dice.throw(len(rows)), (("b",), ("list",), ("came", (backs.get("b", "q"),), tuple(sorted({*words[1:], backs.get("b", "q")})))))
+    return rows + [("calm", 0)]
+
+
+def shared_history(seed, rows=5):
+    """A history of two or three owners who meet each other much; their books have about so many rows together."""
+    dice = Dice(seed)
+    people = 3 + dice.throw(2)
+    names = ("ann", "bob", "cat")[:2 + (dice.throw(3) == 0)]
+    words = WORDS[:2 + dice.throw(3)]
+    play = Play(people, tuple((name, number) for number, name in enumerate(names)))
+    events = []
+    for number in range(60):
+        if sum(len(play.books[name]) for name in names) >= rows:
+            break
+        kind = dice.throw(9)
+        if number < 5 or kind == 0:
+            chosen = ("born", dice.throw(people), dice.pick(words), dice.throw(people), dice.pick(words))
+        elif kind == 1:
+            chosen = ("gone", dice.throw(people), dice.pick(words))
+        else:
+            name = dice.pick(names)
+            way = way_from(dice, play, play.homes[name])
+            if dice.throw(4) == 0:
+                way = (dice.pick(words),)
+            kinds = (("meet", dice.throw(90)), ("meet", dice.throw(90)), ("meet", number), ("list",), ("list",), ("walk",), ("part",))
+            sent = dice.pick(kinds + (("tie", dice.pick(words), dice.pick(words)), ("leave", dice.throw(2)), ("look", dice.throw(2))))
+            chosen = ("letter", name, way[:3], sent)
+        try:
+            play.do(chosen)
+        except NoHistory:
+            continue
+        events.append(chosen)
+    return people, tuple((name, number) for number, name in enumerate(names)), tuple(events)
+
+
+def some_wishes(dice, places, rows, many):
+    """Wishes about these places and rows of several books."""
+    found = []
+    for _ in range(many):
+        kind = dice.pick(("one", "two", "lives", "lacks", "lives", "lacks", "ahead", "ahead"))
+        if kind in ("one", "two"):
+            found.append((kind, dice.pick(places), dice.pick(places)))
+        elif kind == "ahead":
+            found.append((kind, dice.pick(rows), dice.pick(rows)))
+        else:
+            found.append((kind, dice.pick(places), dice.pick(WORDS[:4]), dice.pick(rows)))
+    return found
+
+
+def neighbours_books(seed, rows=3):
+    """Two books whose owners look at one neighbour's ties again and again; and a wish that makes one of both neighbours."""
+    dice = Dice(seed)
+    books = {}
+    for name, back in (("ann", "p"), ("bob", "q")):
+        books[name] = [(("a",), ("walk",), ("came", (back,), None))]
+        for _ in range(rows - 1):
+            kind = dice.throw(6)
+            words = tuple(sorted({word for word in ("x", "y", "z") if dice.throw(2) == 0} | {back}))
+            word = dice.pick(("x", "x", "y"))
+            if kind < 2:
+                books[name].append((("a",), ("list",), ("came", (back,), words)))
+            elif kind == 2:
+                books[name].append((("a", word), ("walk",), ("lost", (back,))))
+            elif kind == 3:
+                books[name].append((("a", word), ("walk",), ("came", (back, "1"), None)))
+            elif kind == 4:
+                books[name].append((("a", word), ("part",), ("came", (back, "1"), None)))
+            else:
+                books[name].append((("a",), ("tie",), ("came", (back,), (dice.pick(("c", "d")), word))))
+    return books, ("one", ("ann", 0, 1), ("bob", 0, 1))

@@ -51,17 +51,38 @@ class Search:
         self.orders = list(shuffles([tuple(self.moment[n, r] for r in range(len(books[n]))) for n in self.names]))
         self.in_run = {n: [set(run) for run in runs(books[n])] for n in self.names}
 
-    def people(self):
+    def people(self, wishes=()):
         """All ways to put people at the places, as dicts, that do not contradict themselves whatever the order is."""
         many = len(self.names)
-        for numbers in partitions(many + len(self.far)):
-            if len(set(numbers[:many])) < many:
+        person = {(n, r, 0): self.names.index(n) for n, r in self.rows}
+        for full in self.placed(person, 0, many, {}, wishes):
+            if self.agrees(full, {n: at for at, n in enumerate(self.names)}):
+                yield full
+
+    def placed(self, person, at, many, partners, wishes):
+        """All ways to put people at the places from this one on; many people are there so far, with these ties."""
+        if at == len(self.far):
+            yield dict(person)
+            return
+        n, r, k = place = self.far[at]
+        way, _, (_, backs_here, *_) = self.books[n][r]
+        for number in range(many + 1):
+            here, there = (person[n, r, k - 1], way[k - 1]), (number, backs_here[k - 1])
+            known = [partners.get(here, there) == there, partners.get(there, here) == here]
+            if here[0] == number or not all(known):
                 continue
-            person = {(n, r, 0): numbers[self.names.index(n)] for n, r in self.rows}
-            person.update(zip(self.far, numbers[many:]))
-            homes = {n: numbers[at] for at, n in enumerate(self.names)}
-            if self.agrees(person, homes):
-                yield person
+            person[place] = number
+            if self.is_wanted(person, place, wishes):
+                yield from self.placed(person, at + 1, max(many, number + 1), {**partners, here: there, there: here}, wishes)
+            del person[place]
+
+    def is_wanted(self, person, place, wishes):
+        """Whether the person at this place is one that the wishes allow, as far as people are known."""
+        for kind, one, other, *_ in wishes:
+            if kind in ("one", "two") and place in (one, other) and one in person and other in person:
+                if (person[one] == person[other]) != (kind == "one"):
+                    return False
+        return True
 
     def agrees(self, person, homes):
         """Whether no row speaks against these people."""
@@ -174,7 +195,7 @@ class Search:
     def worlds(self, wishes=()):
         """All people and orders that some history with these books has, and in which the wishes are true."""
         asked = [wish for wish in wishes if wish[0] in ("lives", "lacks")]
-        for person in self.people():
+        for person in self.people(wishes):
             if any((person[wish[1]] == person[wish[2]]) != (wish[0] == "one") for wish in wishes if wish[0] in ("one", "two")):
                 continue
             for order in self.orders:

@@ -4,9 +4,12 @@ import unittest
 
 from ownwords.bills import bill, gained
 from ownwords.clashes import clash_of, fold_paper, is_clash
-from ownwords.errors import NoBook, NoPlace, NoRow, NoSorting, NoWorld, TooMany
+from ownwords.doings import doings, happened, is_knowing, knows
+from ownwords.errors import NoBook, NoHistory, NoName, NoPlace, NoRow, NoSheets, NoSorting, NoWorld, TooMany
 from ownwords.foldings import are_steps, lots, lots_behind
 from ownwords.judges import is_never, is_one, is_open, is_two
+from ownwords.several import could, fits, is_barred, known
+from ownwords.sheets import sheeted, shift_of
 from ownwords.sortings import barred, common, counts, is_sorting_paper, sorting_paper, sortings
 from ownwords.verdicts import could_be, who, word_at
 from ownwords.worlds import history_of, is_history_of
@@ -28,6 +31,31 @@ def book():
 def small_book():
     """A new book of few lots."""
     return [row("a", ("leave", 1), "came", "b", None), row("c", ("look", 1), "came", "d", False), row("e", WALK, "came", "f", None)]
+
+
+def calm_book():
+    """A new book with calm rows, in which a tie ended that the owner's letter may have ended."""
+    return [
+        row("a", ("list",), "came", "p", ("p", "q", "x")), row("b x", ("part",), "came", "q r", None),
+        row("a", ("list",), "came", "p", ("p", "q")), ("calm", 0),
+    ]
+
+
+def books():
+    """New books of several owners."""
+    return {
+        "bob": [("met", "b", 1), row("b", WALK, "came", "a", None)],
+        "ann": [row("a", ("meet", 1), "came", "b", "met"), row("c", WALK, "lost", ""), row("c", WALK, "came", "d", None)], "cat": [],
+    }
+
+
+def wishes():
+    """New wishes about them."""
+    return [("one", ("ann", 0, 1), ("bob", 0, 0)), ("lacks", ("ann", 0, 0), "c", ("bob", 1)), ("ahead", ("ann", 1), ("bob", 1))]
+
+
+RING = ("ring", ((("ann", 0), ("ann", 1), ("book", "ann")), (("ann", 1), ("ann", 0), ("wish", 0))))
+AT_REST = (2, (("me", 0),), (born(0, "a", 1, "b"), letter("me", "a", *WALK)))
 
 
 def pairs():
@@ -83,6 +111,26 @@ CALLS = (
     (common, lambda: {"one": [[0, 1], [2]], "two": [[0, 1], [2]]}),
     (is_sorting_paper, lambda: {"book": small_book(), "sorting": [[0], [1, 3], [2]], "thing": ["history", [history()]]}),
     (is_sorting_paper, lambda: {"book": small_book(), "sorting": [[0, 1], [2], [3]], "thing": ("never", STEPS[:1], CLASH)}),
+    (knows, lambda: {"book": calm_book(), "one": (0, 1), "other": (1, 1)}),
+    (knows, lambda: {"book": calm_book(), "one": (0, 1), "other": (1, 2)}),
+    (knows, lambda: {"book": small_book(), "one": (0, 1), "other": (2, 1)}),
+    (doings, lambda: {"book": calm_book()}),
+    (doings, lambda: {"book": calm_book() + [row("b x", WALK, "came", "q r", None), ("calm", 3)]}),
+    (happened, lambda: {"book": book(), "i": 3, "j": 4}),
+    (happened, lambda: {"book": calm_book()[::2], "i": 0, "j": 1}),
+    (is_knowing, lambda: {"book": calm_book(), "one": (0, 1), "other": (1, 1), "thing": knows(calm_book(), (0, 1), (1, 1))}),
+    (is_knowing, lambda: {"book": calm_book(), "one": (0, 1), "other": (1, 1), "thing": ["one", [[], ["same"]]]}),
+    (could, lambda: {"books": books(), "wishes": wishes()}),
+    (could, lambda: {"books": books(), "wishes": [("ahead", ("ann", 1), ("bob", 0))]}),
+    (known, lambda: {"books": books(), "wish": wishes()[0]}),
+    (known, lambda: {"books": books(), "wish": wishes()[1]}),
+    (known, lambda: {"books": books(), "wish": ("ahead", ("bob", 1), ("ann", 0))}),
+    (fits, lambda: {"books": books(), "thing": could(books(), [])[1]}),
+    (fits, lambda: {"books": books(), "thing": [[1], [[]], []]}),
+    (is_barred, lambda: {"books": books(), "wishes": [("ahead", ("ann", 1), ("ann", 0))], "thing": ("never", (), RING)}),
+    (is_barred, lambda: {"books": books(), "wishes": wishes(), "thing": ["never", [[]], [[RING]]]}),
+    (sheeted, lambda: {"history": AT_REST, "k": 3, "shifts": [2]}),
+    (shift_of, lambda: {"history": AT_REST, "k": 3, "shifts": [2], "name": "me", "way": ("a", "b", "a")}),
 )
 
 BAD_CALLS = (
@@ -102,11 +150,24 @@ BAD_CALLS = (
     (TooMany, sorting_paper, lambda: {"book": book() + [row("a b c d e f g", WALK, "came", "a b c d e f g", None)], "sorting": [[1]]}),
     (NoWorld, barred, lambda: {"book": small_book() + [row("a", WALK, "came", "x", None)]}),
     (NoSorting, is_sorting_paper, lambda: {"book": small_book(), "sorting": [[0, 1], [2, [3]]], "thing": [[]]}),
+    (NoWorld, knows, lambda: {"book": small_book() + [row("a", WALK, "came", "x", None)], "one": (0, 0), "other": (0, 0)}),
+    (NoPlace, knows, lambda: {"book": calm_book(), "one": [[0], 0], "other": (0, 0)}),
+    (NoBook, doings, lambda: {"book": [[None]]}),
+    (NoRow, happened, lambda: {"book": book(), "i": 0, "j": [[1]]}),
+    (NoPlace, is_knowing, lambda: {"book": calm_book(), "one": [[0], 0], "other": (0, 0), "thing": [[]]}),
+    (NoBook, could, lambda: {"books": {"ann": [[None]], "bob": []}, "wishes": []}),
+    (NoPlace, could, lambda: {"books": books(), "wishes": [("one", [["ann"], 0, 0], None)]}),
+    (NoRow, known, lambda: {"books": books(), "wish": ("ahead", [["ann"], 0], None)}),
+    (NoBook, fits, lambda: {"books": [[]], "thing": [[]]}),
+    (NoRow, is_barred, lambda: {"books": books(), "wishes": [("ahead", ("ann", 0), [[1]])], "thing": [[]]}),
+    (NoHistory, sheeted, lambda: {"history": [1, [], []], "k": 2, "shifts": []}),
+    (NoSheets, sheeted, lambda: {"history": AT_REST, "k": 2, "shifts": [[2]]}),
+    (NoName, shift_of, lambda: {"history": AT_REST, "k": 2, "shifts": [1], "name": [["me"]], "way": ()}),
 )
 
 
 # The kinds of the answers that are neither tuples nor truths.
-KINDS = {lots: list, lots_behind: list, bill: dict, gained: list, sortings: list, counts: list, barred: list, common: list}
+KINDS = {lots: list, lots_behind: list, bill: dict, gained: list, fits: bool, shift_of: int, sortings: list, counts: list, barred: list, common: list}
 
 
 def lists_in(value):
@@ -172,7 +233,7 @@ class AnswersTest(unittest.TestCase):
                 self.assertIs(type(answer), kind, call)
             if call in (lots, lots_behind):
                 self.assertTrue(all(type(lot) is list and type(place) is tuple for lot in answer for place in lot))
-            if kind is tuple:
+            if kind is tuple and answer is not None:
                 self.assertEqual(lists_in(answer), [])
         self.assertIsNone(clash_of(book()))
 

@@ -12,6 +12,7 @@ from tests import naive
 from tests.helper import (
     PART, TIE, WALK, born, calm, changed, deep_list, deep_tuple, gone, letter, listed, lost, row, shown, strange_values, walk,
 )
+from tests.naive_trees import is_clash
 from tests.plays import Dice, some_history
 
 LEFT = row("a", ("leave", 1), "came", "p", None)
@@ -28,25 +29,12 @@ def slow_after(book, pairs, steps):
     return naive.after(book, pairs, steps)
 
 
-def slow_clash(book, lots, clash):
-    """Whether this is a clash of these lots."""
-    if isinstance(clash, tuple) and len(clash) == 3 and clash[0] == "life":
-        places = [shown(place) for place in naive.places(book)]
-        if shown(clash[1]) not in places or not isinstance(clash[2], str):
-            return False
-        return (lots[clash[1]], clash[2]) in naive.mentions(book, lots) and naive.is_life_clash(book, lots, *clash[1:])
-    if isinstance(clash, tuple) and len(clash) == 3 and clash[0] == "words":
-        turned = ("words", clash[2], clash[1])
-        return shown(clash) in map(shown, naive.clashes(book, lots)) or shown(turned) in map(shown, naive.clashes(book, lots))
-    return shown(clash) in map(shown, naive.clashes(book, lots))
-
-
 def slow_judge(book, pairs, word, thing):
     """Whether this is a valid answer with this word and a clash."""
     if not isinstance(thing, tuple) or len(thing) != 3 or thing[0] != word:
         return False
     lots = slow_after(book, pairs, thing[1])
-    return lots is not None and slow_clash(book, lots, thing[2])
+    return lots is not None and is_clash(book, lots, thing[2])
 
 
 def slow_is_one(book, one, other, thing):

@@ -9,7 +9,7 @@ import unittest
 
 PACKAGE = pathlib.Path(__file__).resolve().parent.parent / "ownwords"
 
-# What has landed so far: for each file its functions and classes, with the parameters of the functions.
+# For each file its functions and classes, with the parameters of the functions.
 INTERFACE = {
     "errors": {
         "NoHistory": None, "NoBook": None, "NoPlace": None, "NoRow": None, "NoName": None, "NoWorld": None,
@@ -37,6 +37,20 @@ INTERFACE = {
         "sortings": "(book)", "counts": "(book)", "barred": "(book)", "sorting_paper": "(book, sorting)",
         "common": "(one, two)", "is_sorting_paper": "(book, sorting, thing)",
     },
+    "doings": {
+        "knows": "(book, one, other)", "doings": "(book)", "happened": "(book, i, j)",
+        "is_knowing": "(book, one, other, thing)",
+    },
+    "several": {
+        "could": "(books, wishes)", "known": "(books, wish)", "fits": "(books, thing)", "is_barred": "(books, wishes, thing)",
+    },
+    "sheets": {"sheeted": "(history, k, shifts)", "shift_of": "(history, k, shifts, name, way)"},
+    "house": {"House": None},
+}
+
+METHODS = {
+    "__init__": "(self, people, owners)", "do": "(self, event)", "history": "(self)", "book": "(self, name)",
+    "lots": "(self, name)", "known": "(self, name, one, other)",
 }
 
 BARRED_NAMES = ("register", "mro", "elements", "open", "input", "law", "version_info", "with_traceback", "add_note")
@@ -60,6 +74,19 @@ class InterfaceTest(unittest.TestCase):
                     self.assertEqual(getattr(module, name).__module__, module.__name__)
                     if parameters:
                         self.assertEqual(str(inspect.signature(getattr(module, name))), parameters)
+
+
+    def test_the_methods_of_a_house_are_its_own(self):
+        house = importlib.import_module("ownwords.house").House
+        for name, parameters in METHODS.items():
+            self.assertIn(name, vars(house))
+            self.assertEqual(str(inspect.signature(vars(house)[name])), parameters)
+
+    def test_there_is_nothing_else_to_land(self):
+        text = (PACKAGE.parent.parent / "shared" / "DOC.md")
+        if text.exists():
+            listed = set(re.findall(r"^## ownwords/([a-z]+)\.py$", text.read_text(encoding="utf-8"), re.M))
+            self.assertEqual(listed, set(INTERFACE))
 
 
 class LanguageTest(unittest.TestCase):
