@@ -25,8 +25,9 @@ class Order:
     def twin(self):
         """An order with the same arrows, which can go on on its own."""
         other = Order(self.moments)
-        other.arrows = {moment: dict(self.arrows[moment]) for moment in self.moments}
-        other.later = {moment: dict(self.later[moment]) for moment in self.moments}
+        for moment in self.moments:
+            other.arrows[moment] = {found: self.arrows[moment][found] for found in self.arrows[moment]}
+            other.later[moment] = {found: True for found in self.later[moment]}
         other.ring = self.ring
         return other
 
@@ -42,9 +43,10 @@ class Order:
             self.ring = self.closed_by(one, other, why)
         self.arrows[one][other] = why
         later = [other] + list(self.later[other])
-        for moment in self.moments:
-            if moment == one or one in self.later[moment]:
-                self.later[moment].update({found: True for found in later})
+        sooner = [moment for moment in self.moments if moment == one or one in self.later[moment]]
+        for moment in sooner:
+            for found in later:
+                self.later[moment][found] = True
 
     def closed_by(self, one, other, why):
         """The ring that this arrow makes of a path back, as short as can be."""

@@ -81,7 +81,7 @@ def is_ring_tree(sight, thing):
             if tie is None or moment not in sight.lives.marks[tie].lacking:
                 return False
             for side, part in zip(SIDES, tree[3:]):
-                left.append((part, {**chosen, (side, tie, moment): True}))
+                left.append((part, {choice: True for choice in list(chosen) + [(side, tie, moment)]}))
         else:
             return False
     return True

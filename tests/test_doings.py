@@ -270,6 +270,26 @@ class ManyBooksTest(DoingsCase):
             for _ in range(3):
                 self.check_knows(book, dice.pick(places), dice.pick(places))
 
+    def test_the_bounds(self):
+        way, backs = "a b c d e f g", "1 2 3 4 5 6 7"
+        parts = [row(way + " " + word, PART, "came", backs + " " + back, None) for word, back in (("h", "8"), ("i", "9"), ("j", "z"))]
+        tie = row(way + " k", TIE, "came", backs + " y", ("u", "v"))
+        rows = [listed("p x", "b", "p"), *parts, tie, listed("p v", "b", "p"), walk(way, backs), ("calm", 0)]
+        self.assertEqual(len(rows), 8)
+        self.assertFalse(self.check_doings(rows))
+        rows[0], rows[5] = listed("h p", "b", "p"), listed("p u", "b", "p")
+        self.assertFalse(self.check_doings(rows))
+        rows[0], rows[5] = listed("7 h i j k p", "b", "p"), listed("7 k p", "b", "p")
+        self.assertTrue(self.check_doings(rows))
+        self.assertEqual(self.check_knows(rows, (0, 1), (1, 7)), "one")
+        self.assertEqual(self.check_knows(rows, (0, 1), (6, 6)), "two")
+        self.assertEqual(self.check_knows(rows[:7], (0, 1), (1, 7)), "open")
+        for i in range(7):
+            for j in range(i, 7):
+                answer = happened(rows[:7], i, j)
+                self.assertEqual((answer[0], len(answer)), ("perhaps", 2))
+                check_telling(self, rows[:j + 1] + [("calm", i)] + rows[j + 1:7], answer[1])
+
     def test_what_was_so_is_open_or_known(self):
         for number in range(80):
             history, dice = calm_history(number, 6), Dice(number)

@@ -151,6 +151,29 @@ class LanguageTest(unittest.TestCase):
                 if isinstance(node, ast.Constant) and isinstance(node.value, str):
                     self.assertNotIn("%", node.value, file)
 
+    def test_names_mean_one_thing_each(self):
+        methods, attributes = {}, {}
+        values = [dir(kind) for kind in (str, int, list, dict, set, bytes, tuple)]
+        for file, text in sources().items():
+            tree = ast.parse(text)
+            imported = {alias.name for node in tree.body if isinstance(node, ast.ImportFrom) for alias in node.names}
+            classes = [node for node in tree.body if isinstance(node, ast.ClassDef)]
+            used = {node.id for node in ast.walk(tree) if isinstance(node, ast.Name)}
+            self.assertLessEqual(imported, used, file)
+            for node in ast.walk(tree):
+                for name in self.names_of(node):
+                    if isinstance(node, (ast.Name, ast.arg)):
+                        self.assertNotIn(name, imported | {one.name for one in classes}, (file, name))
+            for one in classes:
+                for node in ast.walk(one):
+                    if isinstance(node, ast.FunctionDef) and not node.name.startswith("__"):
+                        methods[node.name] = file
+                    if isinstance(node, ast.Attribute) and isinstance(node.ctx, ast.Store):
+                        attributes[node.attr] = file
+        self.assertEqual(set(methods) & set(attributes), set())
+        for name in [*methods, *attributes]:
+            self.assertFalse(any(name in names for names in values), name)
+
     def names_of(self, node):
         """The names that this node binds."""
         if isinstance(node, ast.Name) and isinstance(node.ctx, ast.Store):
