@@ -1,6 +1,6 @@
 """Shelves: several books together, with their places and rows, and wishes about them."""
 
-from ownwords.books import first_bad_row, has_place, is_sent
+from ownwords.books import first_bad_row, has_place
 from ownwords.errors import NoBook, NoPlace, NoRow
 from ownwords.forms import is_below, is_name
 
@@ -39,12 +39,12 @@ class Signs:
         self.mets = {}
 
     def take(self, row):
-        """Notes the sign of a valid row, if it has one; returns whether no row so far speaks against it."""
+        """Notes the sign of a valid row that is not calm; returns whether no row so far speaks against it."""
         if row[0] == "met":
             right = row[2] not in self.mets and self.meets.get(row[2], True)
             self.mets[row[2]] = True
             return right
-        if not is_sent(row) or row[1][0] != "meet":
+        if row[1][0] != "meet":
             return True
         sign = row[1][1]
         met = row[2][0] == "came" and row[2][2] == "met"

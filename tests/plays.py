@@ -261,3 +261,21 @@ def neighbours_books(seed, rows=3):
             else:
                 books[name].append((("a",), ("tie",), ("came", (back,), (dice.pick(("c", "d")), word))))
     return books, ("one", ("ann", 0, 1), ("bob", 0, 1))
+
+
+def between_books(seed):
+    """Three books whose owners list one neighbour's words, and wishes that make one of all neighbours.
+
+    What was between what is mostly open, so that there is much to choose.
+    """
+    dice = Dice(seed)
+    owners = [("ann", "p"), ("bob", "q"), ("cat", "r")] + [(name, back) for name, back in (("ann", "p"), ("bob", "q")) if dice.throw(4) == 0]
+    words = [{"p", "q", "r"} for _ in owners]
+    for word in ("u", "v", "x", "y")[:3 + dice.throw(2)]:
+        missing = [dice.throw(len(owners)) for _ in range(1 + (dice.throw(4) == 0))]
+        for number, listed in enumerate(words):
+            listed |= {word} if number not in missing else set()
+    books = {name: [] for name, back in owners}
+    for (name, back), listed in zip(owners, words):
+        books[name].append((("a",), ("list",), ("came", (back,), tuple(sorted(listed)))))
+    return books, [("one", ("ann", 0, 1), (name, 0, 1)) for name in ("bob", "cat")]

@@ -383,6 +383,27 @@ class JudgeTest(unittest.TestCase):
         self.check(False, book[:3], (0, 1), (2, 1), ("one", ((), ("change", (0, 0), "a", 0, 1), ())))
         self.check(False, book[:3] + [("calm", 1)], (0, 1), (2, 1), ("one", ((), ("change", (0, 0), "a", 0, 1), ())))
 
+    def test_rows_of_a_change(self):
+        def check(wanted, book, start, end, word="a"):
+            tree = ((), ("change", (0, 0), word, start, end), ())
+            self.check(wanted, book, (0, 0), (0, 0), ("one", tree), ("two", tree))
+        book = [walk("a", "p"), walk("", ""), lost("a"), ("calm", 0), lost("a"), walk("b", "q"), walk("a", "p"), ("calm", 4)]
+        for start, end, wanted in (
+            (0, 2, True), (2, 0, False), (0, 0, False), (2, 2, False), (1, 2, False), (0, 1, False), (0, 3, False), (3, 2, False),
+            (4, 6, True), (6, 4, False), (5, 6, False), (4, 5, False), (0, 4, False), (2, 6, False), (4, 7, False), (6, 6, False),
+        ):
+            check(wanted, book, start, end)
+        # In one run all of this counts.
+        joined = book + [("calm", 0)]
+        for start, end, wanted in ((0, 4, True), (2, 6, True), (4, 2, False), (6, 0, False), (1, 6, False), (0, 8, False)):
+            check(wanted, joined, start, end)
+        # What the letter of the last row did is no reason, even if the book contradicts itself.
+        part = row("a", PART, "came", "p", None)
+        check(True, [part, walk("a", "p"), part, ("calm", 0)], 1, 2)
+        check(False, [part, walk("a", "p"), part, ("calm", 0)], 0, 2)
+        check(True, [lost("u"), row("u", TIE, "came", "v", ("u", "v")), ("calm", 0)], 0, 1, "u")
+        check(False, [lost("u"), row("a", TIE, "came", "p", ("u", "v")), walk("u", "v"), ("calm", 0)], 0, 2, "u")
+
     def test_changes_within_changes(self):
         tied = (("tie", (0, 1, 0), (3, 1, 0)),)
         change = ("change", (0, 1), "x", 0, 3)

@@ -9,7 +9,7 @@ from ownwords.several import could, fits, is_barred, known
 from tests import naive_several, slow
 from tests.checks import check_fitting, is_true
 from tests.helper import PART, TIE, WALK, born, calm, changed, gone, letter, listed, lost, row, strange_values, walk
-from tests.plays import Dice, changed_book, neighbours_books, shared_history, some_wishes
+from tests.plays import Dice, between_books, changed_book, neighbours_books, shared_history, some_wishes
 
 ONE = ("one", ("ann", 0, 1), ("bob", 0, 1))
 CONTRARY = {"one": "two", "two": "one", "lives": "lacks", "lacks": "lives"}
@@ -313,6 +313,29 @@ class OrderTest(SeveralCase):
         self.check("history", ann, bob, ("ahead", ("ann", 1), ("bob", 1)), ("ahead", ("bob", 1), ("ann", 3)))
         self.check("choice", ann, bob, ("ahead", ("ann", 1), ("bob", 1)), ("ahead", ("bob", 1), ("ann", 2)))
 
+    def test_three_moments_of_which_none_is_between_the_others(self):
+        # Each of the words is missing at one of the moments, and there at the two others.
+        lists = {"ann": "u v", "bob": "v y", "cat": "u y"}
+        books = {name: [listed("p q r " + words, "a", back)] for (name, words), back in zip(lists.items(), "pqr")}
+        ones = [("one", ("ann", 0, 1), ("bob", 0, 1)), ("one", ("ann", 0, 1), ("cat", 0, 1))]
+        self.assertEqual(naive_several.open_pairs(books, ones), 3)
+        answer = self.check_could("choice", books, *ones)
+        self.assertEqual([part[0] for part in answer[2][3:]], ["choice", "choice"])
+        self.check_could("history", books, ones[0])
+        for name in lists:
+            fewer = {**books, name: [listed("p q r u v y", "a", dict(zip(lists, "pqr"))[name])]}
+            self.check_could("history", fewer, *ones)
+            self.assertEqual(naive_several.open_pairs(fewer, ones), 2)
+
+    def test_one_choice_makes_the_others(self):
+        # The moments of ann are not between those of bob, nor is bob's last one between ann's.
+        books = {
+            "ann": [listed("p q x", "a", "p"), listed("p q y", "a", "p")], "bob": [listed("p q y", "b", "q"), listed("p q x", "b", "q")],
+        }
+        for wishes in ([ONE], [ONE, ("ahead", ("ann", 0), ("bob", 0))], [ONE, ("ahead", ("bob", 0), ("ann", 0))]):
+            ends = slow.Search(books).is_possible(*wishes)
+            self.check_could("history" if ends else "choice", books, *wishes)
+
     def test_lost_letters_at_moments_that_are_the_same(self):
         met = {"ann": [meet("a", "p", 1, "met")], "bob": [("met", "p", 1)]}
         self.check_could("history", met)
@@ -583,6 +606,19 @@ class ManyBooksTest(SeveralCase):
         self.assertGreater(found["choice"], 5)
         self.assertGreater(found["history"], 5)
         self.assertGreater(found["ring"], 5)
+
+    def test_much_to_choose(self):
+        found, branching = {}, 0
+        for number in range(150):
+            books, wishes = between_books(number)
+            kind = self.check_wishes(books, wishes)
+            found[kind] = found.get(kind, 0) + 1
+            if kind == "choice":
+                tree = could(books, wishes)[2]
+                branching += tree[3][0] == tree[4][0] == "choice"
+                self.check_changed(books, wishes, Dice(number), 149)
+        self.assertGreater(found["history"], 10)
+        self.assertGreater(branching, 5)
 
     def test_answers_that_differ_a_little(self):
         for number in range(60):

@@ -68,6 +68,26 @@ class ChoiceTest(PaperCase):
             self.check(wanted, self.BOOKS, [], self.tree(one=ring))
             self.check(wanted, self.BOOKS, [], self.tree(one=("ring", ring[1][::-1])))
 
+    def test_one_condition_of_an_arrow_alone(self):
+        books = {"ann": [walk("x", "y"), lost("x"), row("x", PART, "came", "y", None)], "bob": [walk("", ""), walk("", "")]}
+        x, one, two = self.X, ("ann", 1), ("bob", 0)
+        wishes = [("ahead", one, two), ("ahead", two, one), ("ahead", two, ("ann", 0)), ("ahead", ("ann", 2), two), ("ahead", two, ("ann", 2))]
+        ahead = ("ring", ((one, ("ann", 0), ("ahead", x)), (("ann", 0), one, ("book", "ann"))))
+        behind = ("ring", ((("ann", 2), one, ("behind", x)), (one, ("ann", 2), ("book", "ann"))))
+        self.check(True, books, wishes, ("choice", x, one, ahead, behind))
+        for wrong in (
+            # Nothing speaks of the tie at bob's moment.
+            ("ring", ((one, two, ("ahead", x)), (two, one, ("wish", 1)))), ("ring", ((two, one, ("behind", x)), (one, two, ("wish", 0)))),
+            ("ring", ((("ann", 2), two, ("dead", x)), (two, ("ann", 2), ("wish", 4)))),
+            ("ring", ((two, ("ann", 2), ("dead", x)), (("ann", 2), two, ("wish", 3)))),
+            ("ring", ((two, ("ann", 0), ("born", x)), (("ann", 0), one, ("book", "ann")), (one, two, ("wish", 0)))),
+            # No moment is ahead of itself, and an arrow of a book is between two rows of that book.
+            ("ring", ((one, one, ("book", "ann")),)), ("ring", ((two, one, ("book", "ann")), (one, two, ("wish", 0)))),
+            ("ring", ((one, two, ("book", "bob")), (two, one, ("wish", 1)))), ("ring", ((one, two, ("book", "ann")), (two, one, ("wish", 1)))),
+            ("ring", ((one, ("ann", 0), ("ahead", (("ann", 0, 0), "z"))), ahead[1][1])), ("ring", ((("ann", 1), ("ann", 1), ("ahead", x)),)),
+        ):
+            self.check(False, books, wishes, ("choice", x, one, wrong, behind), ("choice", x, one, ahead, wrong), wrong)
+
     def test_rings_of_other_forms(self):
         one, two = self.AHEAD[1]
         for arrows, wanted in (
@@ -223,6 +243,19 @@ class StepTest(PaperCase):
             for thing in changed(answer):
                 self.assertIs(is_barred(books, wishes, thing), naive_several.is_never(books, wishes, thing), thing)
 
+    def test_values_of_all_kinds_where_meet_letters_are(self):
+        steps = (("meet", ("ann", 0)), ("meet", ("ann", 1)), ("self", ("ann", 2)))
+        for value in strange_values() + [("ann", 3), ("bob", 0), ("bob", 3), "zoe", 5, ("ann", True), ("ann", 0, 0)]:
+            for clash in (("keeps", ("ann", 0), value), ("keeps", value, ("ann", 1)), ("keeps", value, "bob"), ("signs", value), ("owners", value, "bob")):
+                for told in (steps, ()):
+                    self.check(False, self.BOOKS, [], clash, steps=told)
+
+    def test_keeps_of_a_letter_that_met_someone_at_home(self):
+        wishes = [("one", ("ann", 0, 1), ("ann", 0, 0))]
+        self.check(True, self.BOOKS, wishes, ("keeps", ("ann", 0), "ann"), steps=(("put", 0),))
+        self.check(False, self.BOOKS, wishes, ("keeps", ("ann", 0), "ann"), ("keeps", ("ann", 0), "bob"))
+        self.check(False, self.BOOKS, wishes, ("keeps", ("ann", 0), "bob"), steps=(("put", 0),))
+
     def test_values_of_all_kinds(self):
         books, tree = ChoiceTest.BOOKS, ChoiceTest("test_a_choice").tree
         arrow = ChoiceTest.AHEAD[1][0]
@@ -237,6 +270,9 @@ class StepTest(PaperCase):
                 ("never", (), tree(one=("ring", ((arrow[0], value, arrow[2]), ChoiceTest.AHEAD[1][1])))),
                 ("never", (), tree(one=("ring", ((*arrow[:2], value), ChoiceTest.AHEAD[1][1])))),
                 ("never", (), tree(one=("ring", ((*arrow[:2], ("ahead", value)), ChoiceTest.AHEAD[1][1])))),
+                ("never", (), tree(one=("ring", ((*arrow[:2], ("book", value)), ChoiceTest.AHEAD[1][1])))),
+                ("never", (), tree(one=("ring", ((*arrow[:2], ("wish", value)), ChoiceTest.AHEAD[1][1])))),
+                ("never", (), ("owners", value, "ann")),
                 ("never", (), tree(one=("ring", ((*arrow[:2], (value, ChoiceTest.X)), ChoiceTest.AHEAD[1][1])))),
                 ("never", (), ("words", value, value)), ("never", (), ("loop", value)), ("never", (), ("owners", value, value)),
                 ("never", (), ("keeps", value, value)), ("never", (), ("keeps", ("ann", 0), value)), ("never", (), ("signs", value)),
