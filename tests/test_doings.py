@@ -397,6 +397,11 @@ class JudgeTest(unittest.TestCase):
         joined = book + [("calm", 0)]
         for start, end, wanted in ((0, 4, True), (2, 6, True), (4, 2, False), (6, 0, False), (1, 6, False), (0, 8, False)):
             check(wanted, joined, start, end)
+        # A row at which the tie is living and lacking is no change.
+        both = [listed("", "a", "p"), walk("", ""), ("calm", 0)]
+        for start, end in ((0, 0), (0, 1), (1, 0), (1, 1)):
+            check(False, both, start, end)
+        check(True, [both[0], walk("", ""), both[0], ("calm", 0)], 0, 2)
         # What the letter of the last row did is no reason, even if the book contradicts itself.
         part = row("a", PART, "came", "p", None)
         check(True, [part, walk("a", "p"), part, ("calm", 0)], 1, 2)
